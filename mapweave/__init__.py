@@ -1,0 +1,1 @@
+"""Mapweave: maps put together, parted, met and joined."""
