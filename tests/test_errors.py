@@ -1,10 +1,22 @@
-"""The interface of errors.py."""
+"""The interface of errors.py, and that what is refused is refused with it."""
 
 import unittest
 
+from mapweave.dividing import before, behind
 from mapweave.errors import MapError, NoFit, NoText, NoTurn
+from mapweave.reading import read
+from mapweave.weaving import then, turned
 
 REFUSALS = (NoText, NoFit, NoTurn)
+
+REFUSED_CALLS = (
+    (NoText, read, ("",)),
+    (NoText, read, ("3: 0 3 2",)),
+    (NoFit, then, ((3, (0, 2, 2)), (3, (0, 2)))),
+    (NoFit, before, ((3, (0, 2, 2)), (2, (0, 1)))),
+    (NoFit, behind, ((3, (0, 2, 2)), (3, (0, 1)))),
+    (NoTurn, turned, ((3, (0, 2, 2)),)),
+)
 
 
 class ErrorsTest(unittest.TestCase):
@@ -32,6 +44,21 @@ class ErrorsTest(unittest.TestCase):
             with self.subTest(refusal=refusal.__name__):
                 with self.assertRaises(MapError):
                     raise refusal("words are free")
+
+    def test_each_refused_call_is_taken_by_its_own_refusal_and_those_above_it(self):
+        for refusal, function, handed_in in REFUSED_CALLS:
+            for taker in (ValueError, MapError, refusal):
+                with self.subTest(function=function.__name__, taker=taker.__name__):
+                    with self.assertRaises(taker):
+                        function(*handed_in)
+
+    def test_no_refused_call_is_taken_by_another_refusal(self):
+        for refusal, function, handed_in in REFUSED_CALLS:
+            with self.subTest(function=function.__name__, refusal=refusal.__name__):
+                with self.assertRaises(MapError) as caught:
+                    function(*handed_in)
+                takers = [one for one in REFUSALS if isinstance(caught.exception, one)]
+                self.assertEqual(takers, [refusal])
 
 
 if __name__ == "__main__":

@@ -5,20 +5,11 @@ import itertools
 import unittest
 
 from mapweave.maps import is_map
+from samples import rows_of_maps
 
 NO_WHOLE_NUMBERS = (
     None, True, False, "", "0", "1", "a", [], [0], [1], (), (0,), (1,), (1, (0,)),
 )
-
-
-def rows_of_maps(many, to):
-    """Some rows of so many things into to things, the least and the greatest among them."""
-    if to == 0:
-        return [()] if many == 0 else []
-    rows = [(0,) * many, (to - 1,) * many]
-    rows.append(tuple(k % to for k in range(many)))
-    rows.append(tuple((to - 1 - k) % to for k in range(many)))
-    return rows
 
 
 def with_part(row, place, part):

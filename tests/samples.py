@@ -1,0 +1,70 @@
+"""Maps to test with, the words of the document done plainly, and how answers are compared."""
+
+import itertools
+import unittest
+
+from mapweave.errors import MapError
+
+
+def rows_of_maps(many, to):
+    """Some rows of so many things into to things, the least and the greatest among them."""
+    if to == 0:
+        return [()] if many == 0 else []
+    rows = [(0,) * many, (to - 1,) * many]
+    rows.append(tuple(k % to for k in range(many)))
+    rows.append(tuple((to - 1 - k) % to for k in range(many)))
+    rows.append(tuple((k * k + 1) % to for k in range(many)))
+    rows.append(tuple((3 * k * k + 2 * k) // 2 % to for k in range(many)))
+    return rows
+
+
+def some_maps(many, to):
+    return [(to, row) for row in rows_of_maps(many, to)]
+
+
+def every_map(many, to):
+    return [(to, row) for row in itertools.product(range(to), repeat=many)]
+
+
+def every_map_up_to(many, to):
+    return [
+        one
+        for size in itertools.product(range(many + 1), range(to + 1))
+        for one in every_map(*size)
+    ]
+
+
+def put_together(one, other):
+    """What then(one, other) is to be, of maps that fit."""
+    row = []
+    for k in range(len(one[1])):
+        row.append(other[1][one[1][k]])
+    return (other[0], tuple(row))
+
+
+def itself(many):
+    """What same(many) is to be."""
+    return (many, tuple(k for k in range(many)))
+
+
+class SamplesTestCase(unittest.TestCase):
+    def assert_told(self, told, expected):
+        # A truth is equal to a whole number, and shown otherwise.
+        self.assertEqual(repr(told), repr(expected))
+
+    def assert_map_of(self, thing, many, to):
+        """That thing is a map of so many things with this to, however many they are."""
+        self.assertIs(type(thing), tuple, repr(thing))
+        self.assertEqual(len(thing), 2, repr(thing))
+        self.assertIs(type(thing[0]), int, repr(thing))
+        self.assertEqual(thing[0], to, repr(thing))
+        self.assertIs(type(thing[1]), tuple, repr(thing))
+        self.assertEqual(len(thing[1]), many, repr(thing))
+        for part in thing[1]:
+            self.assertIs(type(part), int, repr(thing))
+            self.assertTrue(0 <= part < to, repr(thing))
+
+    def assert_refused(self, refusal, function, *handed_in):
+        with self.assertRaises(MapError, msg=repr(handed_in)) as caught:
+            function(*handed_in)
+        self.assertIs(type(caught.exception), refusal, repr(handed_in))
