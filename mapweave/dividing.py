@@ -1,12 +1,11 @@
 """Whether a map goes through another one: by which map, or what shows that it doesn't."""
 
-from mapweave.errors import NoFit
+from mapweave.fitting import need_as_many, need_same_to
 from mapweave.weaving import first_places
 
 
 def before(one, other):
-    if one[0] != other[0]:
-        raise NoFit("the two maps have not the same to")
+    need_same_to(one, other)
     places = first_places(other[1])
     for k, thing in enumerate(one[1]):
         if thing not in places:
@@ -15,8 +14,7 @@ def before(one, other):
 
 
 def behind(one, other):
-    if len(one[1]) != len(other[1]):
-        raise NoFit("the two maps are not of as many things")
+    need_as_many(one, other)
     places = first_places(other[1])
     for late, thing in enumerate(other[1]):
         early = places[thing]

@@ -47,6 +47,47 @@ def itself(many):
     return (many, tuple(k for k in range(many)))
 
 
+def row_of_rings(lengths):
+    """The row of a map that is rings of these lengths, one behind the other."""
+    row = []
+    for length in lengths:
+        first = len(row)
+        row.extend(first + (k + 1) % length for k in range(length))
+    return tuple(row)
+
+
+def some_into_themselves(many):
+    """Some maps of so many things, at least 1, into themselves: rings, tails and both."""
+    rows = rows_of_maps(many, many)
+    rows.append((0,) + tuple(range(many - 1)))
+    rows.append((many - 1,) + tuple(range(many - 1)))
+    rows.append(tuple(min(k + 1, many - 1) for k in range(many)))
+    rows.append(tuple(k // 2 for k in range(many)))
+    rows.append(tuple(min(k + 2, many - 1) if k % 3 else 0 for k in range(many)))
+    rows.append(row_of_rings([many - many // 2] + [many // 2] * (many > 1)))
+    rows.append(row_of_rings([1, 2] * (many // 3) + [1] * (many % 3)))
+    return [(many, row) for row in rows]
+
+
+def every_into_itself(many):
+    return every_map(many, many)
+
+
+def with_names(one, names):
+    """The map of things into themselves in which what was called k is called names[k]."""
+    row = [None] * one[0]
+    for k in range(one[0]):
+        row[names[k]] = names[one[1][k]]
+    return (one[0], tuple(row))
+
+
+def some_names(many):
+    """Some ways to call so many things otherwise, the same names among them."""
+    names = [tuple(range(many)), tuple(reversed(range(many))), tuple((k + 1) % many for k in range(many))]
+    names.append(tuple(range(0, many, 2)) + tuple(range(1, many, 2)))
+    return names
+
+
 class SamplesTestCase(unittest.TestCase):
     def assert_told(self, told, expected):
         # A truth is equal to a whole number, and shown otherwise.

@@ -4,7 +4,9 @@ import unittest
 
 from mapweave.dividing import before, behind
 from mapweave.errors import MapError, NoFit, NoText, NoTurn
+from mapweave.meeting import agreed, alike_made, joined, met, paired, stacked
 from mapweave.reading import read
+from mapweave.rings import beat, often, plain, renaming, ring, tail
 from mapweave.weaving import then, turned
 
 REFUSALS = (NoText, NoFit, NoTurn)
@@ -15,6 +17,21 @@ REFUSED_CALLS = (
     (NoFit, then, ((3, (0, 2, 2)), (3, (0, 2)))),
     (NoFit, before, ((3, (0, 2, 2)), (2, (0, 1)))),
     (NoFit, behind, ((3, (0, 2, 2)), (3, (0, 1)))),
+    (NoFit, met, ((3, (0, 2, 2)), (2, (0, 1)))),
+    (NoFit, agreed, ((3, (0, 2, 2)), (3, (0, 1)))),
+    (NoFit, agreed, ((3, (0, 2, 2)), (4, (0, 2, 2)))),
+    (NoFit, joined, ((3, (0, 2, 2)), (3, (0, 1)))),
+    (NoFit, alike_made, ((3, (0, 2, 2)), (3, (0, 1)))),
+    (NoFit, alike_made, ((3, (0, 2, 2)), (4, (0, 2, 2)))),
+    (NoFit, paired, ((3, (0, 2, 2)), (3, (0, 1)))),
+    (NoFit, stacked, ((3, (0, 2, 2)), (2, (0, 1)))),
+    (NoFit, often, ((3, (0, 2)), 2)),
+    (NoFit, ring, ((3, (0, 2)), 0)),
+    (NoFit, tail, ((3, (0, 2)), 0)),
+    (NoFit, beat, ((3, (0, 2)),)),
+    (NoFit, plain, ((3, (0, 2)),)),
+    (NoFit, renaming, ((3, (0, 2)), (3, (0, 2, 2)))),
+    (NoFit, renaming, ((3, (0, 2, 2)), (3, (0, 2)))),
     (NoTurn, turned, ((3, (0, 2, 2)),)),
 )
 
